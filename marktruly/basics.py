@@ -1,0 +1,24 @@
+"""What several modules need: what counts as an integer, and blocks of numbers."""
+
+
+def is_integer(value):
+    """Tell whether a value is an integer: True and False are none."""
+    return isinstance(value, int) and not isinstance(value, bool)
+
+
+def is_number_below(value, end):
+    """Tell whether a value is an integer from 0 to end - 1."""
+    return is_integer(value) and 0 <= value < end
+
+
+def block_of(number, sizes):
+    """Tell on which block a number lies, and at which place within it.
+
+    The blocks lie one behind the other from 0 on; the number is below the sum of their sizes.
+    """
+    at = 0
+    left = number
+    while left >= sizes[at]:
+        left = left - sizes[at]
+        at = at + 1
+    return at, left

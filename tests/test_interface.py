@@ -1,0 +1,73 @@
+"""The section "The interface": what stands in which file, with which arguments; and what arguments stay."""
+
+import ast
+import unittest
+from pathlib import Path
+
+PACKAGE = Path(__file__).resolve().parent.parent / "marktruly"
+FUNCTIONS = {
+    "shares": {
+        "read_share": ("text",), "lesser_of": ("share", "other"), "sum_of": ("shares",),
+    },
+    "sources": {
+        "table_of": ("source",), "mixed": ("source", "other", "part"), "behind": ("source", "other"),
+        "led": ("source", "changes"), "alike": ("source", "other"),
+    },
+    "changes": {
+        "unchanged": ("texts",), "exchanged": ("texts", "alphabet", "most"), "struck": ("texts", "most"),
+        "put_in": ("texts", "alphabet", "most"), "after": ("first", "second"), "together": ("one", "other"),
+        "parting": ("changes",), "classes": ("changes",),
+    },
+}
+SOURCE_METHODS = {"texts": (), "weight_of": ("text",), "share_of": ("text",), "drawn": ("number",)}
+CLASSES = {
+    "errors": {
+        "MarkError": {}, "InvalidNumber": {"__init__": ("number",)}, "InvalidPair": {"__init__": ("at",)},
+        "InvalidKey": {"__init__": ("key",)}, "UnknownText": {"__init__": ("text",)},
+        "NotClasses": {"__init__": ("text", "other")}, "Seen": {"__init__": ("text",)},
+        "Accuses": {"__init__": ("text",)}, "InvalidText": {"__init__": ("text", "at")},
+        "NoTicket": {"__init__": ("ticket",)}, "NoMaker": {"__init__": ("maker",)},
+    },
+    "shares": {
+        "Share": {
+            "__init__": ("over", "under"), "__add__": ("other",), "__sub__": ("other",), "__mul__": ("other",),
+            "__eq__": ("other",), "by": ("other",), "is_below": ("other",), "written": (),
+        },
+    },
+    "sources": {
+        "Table": {"__init__": ("pairs",), **SOURCE_METHODS},
+        "Machine": {"__init__": ("alphabet", "start", "rows", "length"), **SOURCE_METHODS},
+    },
+    "changes": {
+        "Changes": {"__init__": ("rows",), "__eq__": ("other",), "texts": (), "of": ("text",), "readable": ()},
+    },
+}
+
+
+def body_of(module):
+    return ast.parse((PACKAGE / (module + ".py")).read_text()).body
+
+
+def arguments_of(function):
+    return tuple(argument.arg for argument in function.args.args)
+
+
+class InterfaceTest(unittest.TestCase):
+
+    def test_functions(self):
+        for module, functions in FUNCTIONS.items():
+            found = {part.name: arguments_of(part) for part in body_of(module) if isinstance(part, ast.FunctionDef)}
+            for name, arguments in functions.items():
+                self.assertEqual(found[name], arguments, name)
+
+    def test_classes(self):
+        for module, kinds in CLASSES.items():
+            found = {part.name: part for part in body_of(module) if isinstance(part, ast.ClassDef)}
+            for name, methods in kinds.items():
+                told = {part.name: part for part in found[name].body if isinstance(part, ast.FunctionDef)}
+                for method, arguments in methods.items():
+                    self.assertEqual(arguments_of(told[method]), ("self",) + arguments, (name, method))
+
+
+if __name__ == "__main__":
+    unittest.main()
