@@ -1,4 +1,4 @@
-"""What several modules need: what counts as an integer, and blocks of numbers."""
+"""What several modules need: what counts as an integer, blocks of numbers, and the readable texts of some texts."""
 
 
 def is_integer(value):
@@ -9,6 +9,11 @@ def is_integer(value):
 def is_number_below(value, end):
     """Tell whether a value is an integer from 0 to end - 1."""
     return is_integer(value) and 0 <= value < end
+
+
+def is_weight(value):
+    """Tell whether a value is an integer from 1 on."""
+    return is_integer(value) and value >= 1
 
 
 def block_of(number, sizes):
@@ -22,3 +27,11 @@ def block_of(number, sizes):
         left = left - sizes[at]
         at = at + 1
     return at, left
+
+
+def readable_of(texts, changes):
+    """Return the readable texts of each of these texts, which are ascending.
+
+    All are asked for ahead of anything else: the first one without a row raises UnknownText.
+    """
+    return {text: changes.of(text) for text in texts}

@@ -1,5 +1,6 @@
 """Changes: which texts may be read where a text was written."""
 
+from marktruly.basics import readable_of
 from marktruly.errors import InvalidPair, NotClasses, UnknownText
 
 
@@ -84,8 +85,7 @@ def _reached(text, most, step):
 
 def after(first, second):
     """Return what second makes of what first makes of the texts of first."""
-    # Asked of all of them first: the first one without a row raises UnknownText.
-    made = {text: second.of(text) for text in first.readable()}
+    made = readable_of(first.readable(), second)
     rows = []
     for text in first.texts():
         rows.append((text, [told for between in first.of(text) for told in made[between]]))

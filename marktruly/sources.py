@@ -2,7 +2,7 @@
 
 from math import gcd, lcm
 
-from marktruly.basics import block_of, is_integer, is_number_below
+from marktruly.basics import block_of, is_number_below, is_weight, readable_of
 from marktruly.errors import InvalidNumber, InvalidPair
 from marktruly.shares import Share
 
@@ -13,7 +13,7 @@ class Table:
     def __init__(self, pairs):
         weights = {}
         for at, (text, weight) in enumerate(pairs):
-            if not is_integer(weight) or weight < 1 or text in weights:
+            if not is_weight(weight) or text in weights:
                 raise InvalidPair(at)
             weights[text] = weight
         self._weights = {text: weights[text] for text in sorted(weights)}
@@ -154,8 +154,7 @@ def behind(source, other):
 
 def led(source, changes):
     """Return the table of a text of source that is changed into one of its readable texts."""
-    # Asked of all texts first: the first one without a row raises UnknownText.
-    readable = {text: changes.of(text) for text in source.texts()}
+    readable = readable_of(source.texts(), changes)
     many = 1
     for text in readable:
         many = lcm(many, len(readable[text]))

@@ -18,6 +18,24 @@ FUNCTIONS = {
         "put_in": ("texts", "alphabet", "most"), "after": ("first", "second"), "together": ("one", "other"),
         "parting": ("changes",), "classes": ("changes",),
     },
+    "packing": {
+        "worth": ("source", "changes", "level"), "best_row": ("source", "changes", "level"),
+        "prices": ("source", "changes", "level"), "row_fault": ("source", "changes", "level", "row"),
+        "price_fault": ("source", "changes", "paper"), "cost": ("source", "level", "paper"), "row_sum": ("row",),
+    },
+    "levels": {
+        "plain_worth": ("source", "level"), "class_worth": ("source", "changes", "level"), "bends": ("source",),
+        "least_level": ("source", "found"),
+    },
+    "markings": {
+        "written_table": ("marking",), "best_marking": ("source", "changes", "level"),
+        "marking_of_row": ("source", "changes", "row"),
+    },
+    "judges": {
+        "seen_at": ("source", "marking"), "accused_most": ("marking",), "accused_at": ("marking", "level"),
+        "found_share": ("changes", "marking"), "gap": ("source", "changes", "level", "marking"),
+        "blind_share": ("changes", "marking"),
+    },
 }
 SOURCE_METHODS = {"texts": (), "weight_of": ("text",), "share_of": ("text",), "drawn": ("number",)}
 CLASSES = {
@@ -40,6 +58,12 @@ CLASSES = {
     },
     "changes": {
         "Changes": {"__init__": ("rows",), "__eq__": ("other",), "texts": (), "of": ("text",), "readable": ()},
+    },
+    "markings": {
+        "Marking": {
+            "__init__": ("entries",), "__len__": (), "key_of": ("number",), "write": ("key",),
+            "accuses": ("key", "text"), "texts": (), "written_share": ("text",), "accused_share": ("text",),
+        },
     },
 }
 

@@ -135,12 +135,13 @@ class LanguageTest(unittest.TestCase):
                 allowed = (ast.ImportFrom, ast.FunctionDef, ast.ClassDef, ast.Assign)
                 self.assertTrue(isinstance(part, allowed) or at == 0 and isinstance(part, ast.Expr), (path, at))
 
-    def test_l5_l28_classes(self):
+    def test_l5_l12_l28_classes(self):
         for part, place in parts():
             if isinstance(part, ast.FunctionDef) and part.name.startswith("__"):
                 self.assertIn(part.name, DOUBLE_UNDERSCORE, place)
             if isinstance(part, ast.ClassDef):
                 self.assertEqual(part.decorator_list + part.keywords, [], place)
+                self.assertRegex(part.name, r"^[A-Za-z]", place)
 
     def test_l6_l7_statements_and_expressions(self):
         for part, place in parts():
