@@ -1,8 +1,6 @@
 """Markings: keys that tell which text is written and which texts are accused, and the best ones."""
 
-from math import lcm
-
-from marktruly.basics import block_of, is_number_below, is_weight, readable_of
+from marktruly.basics import block_of, entries_of, is_number_below, is_weight, readable_of
 from marktruly.errors import InvalidKey, InvalidNumber, InvalidPair
 from marktruly.packing import best_row
 from marktruly.shares import Share
@@ -76,13 +74,4 @@ def marking_of_row(source, changes, row):
     readable = readable_of(source.texts(), changes)
     found = [(share, text, readable[text]) for text, share in row]
     missed = [(source.share_of(text) - share, text, ()) for text, share in row]
-    return _marking_of_shares([key for key in found + missed if Share(0, 1).is_below(key[0])])
-
-
-def _marking_of_shares(keys):
-    """Return the marking of triples of share, text and accused texts."""
-    whole = 1
-    for share, _, _ in keys:
-        whole = lcm(whole, share.under)
-    # Shares in lowest terms that make 1 together: over the least whole, their weights have no common divisor.
-    return Marking([(share.over * (whole // share.under), text, accused) for share, text, accused in keys])
+    return Marking(entries_of(found + missed))

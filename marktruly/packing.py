@@ -1,7 +1,7 @@
 """Packing: rows, the greatest sum that one has, and the prices that show that none has more."""
 
-from marktruly.basics import readable_of
-from marktruly.shares import Share, lesser_of, sum_of
+from marktruly.basics import capped, readable_of
+from marktruly.shares import Share, sum_of
 
 
 class Tableau:
@@ -85,11 +85,6 @@ class Tableau:
         return found
 
 
-def _capped(level):
-    """Return the level, 1 for one above 1."""
-    return lesser_of(level, Share(1, 1))
-
-
 def _solved(source, changes, level):
     """Return the solved tableau of a source's rows, its amounts times source.whole and the level's under.
 
@@ -112,7 +107,7 @@ def worth(source, changes, level):
 
 def best_row(source, changes, level):
     """Return a row with the greatest sum."""
-    most = _capped(level)
+    most = capped(level)
     tableau = _solved(source, changes, most)
     whole = tableau.unit * source.whole * most.under
     shares = [Share(amount, whole) for amount in tableau.amounts()]
@@ -121,7 +116,7 @@ def best_row(source, changes, level):
 
 def prices(source, changes, level):
     """Return prices with the least cost."""
-    tableau = _solved(source, changes, _capped(level))
+    tableau = _solved(source, changes, capped(level))
     shares = [Share(price, tableau.unit) for price in tableau.prices()]
     texts = source.texts()
     return tuple(zip(texts, shares)), tuple(zip(changes.readable(), shares[len(texts):]))
@@ -134,7 +129,7 @@ def row_fault(source, changes, level, row):
     for text in shares:
         if shares[text].is_below(Share(0, 1)) or source.share_of(text).is_below(shares[text]):
             return "share", text
-    most = _capped(level)
+    most = capped(level)
     for told in changes.readable():
         together = sum_of([shares[text] for text in readable if told in readable[text]])
         if most.is_below(together):
@@ -160,7 +155,7 @@ def price_fault(source, changes, paper):
 def cost(source, level, paper):
     """Return what prices cost."""
     own = sum_of([source.share_of(text) * share for text, share in paper[0]])
-    return own + _capped(level) * row_sum(paper[1])
+    return own + capped(level) * row_sum(paper[1])
 
 
 def row_sum(row):

@@ -36,6 +36,14 @@ FUNCTIONS = {
         "found_share": ("changes", "marking"), "gap": ("source", "changes", "level", "marking"),
         "blind_share": ("changes", "marking"),
     },
+    "writers": {
+        "best_writer": ("source", "changes", "finder"), "lot_bound": ("source", "changes", "finder", "lot"),
+    },
+    "makers": {"shared_at": ("source", "shared"), "shared_of": ("makers",)},
+    "again": {
+        "times": ("share", "many"), "often": ("share", "many", "level"), "again_worth": ("source", "many", "level"),
+        "row_seen_at": ("source", "rows"), "again_marking": ("source", "many", "level"),
+    },
 }
 SOURCE_METHODS = {"texts": (), "weight_of": ("text",), "share_of": ("text",), "drawn": ("number",)}
 CLASSES = {
@@ -65,7 +73,32 @@ CLASSES = {
             "accuses": ("key", "text"), "texts": (), "written_share": ("text",), "accused_share": ("text",),
         },
     },
+    "makers": {
+        "Makers": {
+            "__init__": ("source", "many", "level"), "arcs": (), "write": ("maker", "key"), "who": ("key", "text"),
+            "credited": ("maker", "other", "text"),
+        },
+        "Shared": {
+            "__init__": ("entries",), "written_share": ("maker", "text"), "found_share": ("maker",),
+            "named_share": ("text",), "mean_found": (),
+        },
+    },
+    "again": {
+        "RowMarking": {
+            "__init__": ("entries",), "__len__": (), "row_share": ("row",), "accused_share": ("text",),
+            "found_share": (),
+        },
+    },
+    "far": {
+        "Far": {"__init__": ("weights", "length"), "share_of": ("text",), "worth_at": ("level",)},
+        "FarMarking": {
+            "__init__": ("far", "level"), "write": ("key",), "accuses": ("key", "text"), "arc_of": ("text",),
+            "rest_of": ("text",),
+        },
+    },
 }
+# What stands over a method; over all others stands nothing.
+DECORATED = {("Makers", "arcs"): "property"}
 
 
 def body_of(module):
@@ -90,7 +123,9 @@ class InterfaceTest(unittest.TestCase):
             for name, methods in kinds.items():
                 told = {part.name: part for part in found[name].body if isinstance(part, ast.FunctionDef)}
                 for method, arguments in methods.items():
-                    self.assertEqual(arguments_of(told[method]), ("self",) + arguments, (name, method))
+                    self.assertEqual(arguments_of(told[method])[1:], arguments, (name, method))
+                    over = [part.id for part in told[method].decorator_list]
+                    self.assertEqual(over, [DECORATED[name, method]] if (name, method) in DECORATED else [])
 
 
 if __name__ == "__main__":
