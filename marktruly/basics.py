@@ -25,6 +25,11 @@ def is_weight(value):
     return is_integer(value) and value >= 1
 
 
+def sum_of_weights(pairs):
+    """Return the sum of the weights of pairs that begin with one."""
+    return sum([weight for weight, told in pairs])
+
+
 def block_of(number, sizes):
     """Tell on which block a number lies, and at which place within it.
 

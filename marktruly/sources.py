@@ -2,7 +2,7 @@
 
 from math import gcd, lcm
 
-from marktruly.basics import block_of, is_number_below, is_weight, readable_of
+from marktruly.basics import block_of, is_number_below, is_weight, readable_of, sum_of_weights
 from marktruly.errors import InvalidNumber, InvalidPair
 from marktruly.shares import Share
 
@@ -49,7 +49,7 @@ class Machine:
         self.length = length
         self.unit = 1
         for row in self.rows:
-            self.unit = lcm(self.unit, _row_sum(row))
+            self.unit = lcm(self.unit, sum_of_weights(row))
         self.whole = 1
         for _ in range(length):
             self.whole = self.whole * self.unit
@@ -105,13 +105,8 @@ class Machine:
     def _sizes(self, state):
         """Return what each letter takes of the unit in this state."""
         row = self.rows[state]
-        scale = self.unit // _row_sum(row)
+        scale = self.unit // sum_of_weights(row)
         return [weight * scale for weight, following in row]
-
-
-def _row_sum(row):
-    """Return the sum of the weights of a state."""
-    return sum([weight for weight, state in row])
 
 
 def _reduced(weights):

@@ -2,7 +2,7 @@
 
 from math import gcd
 
-from marktruly.basics import readable_of
+from marktruly.basics import readable_of, sum_of_weights
 from marktruly.markings import Marking
 from marktruly.shares import Share, sum_of
 
@@ -98,17 +98,12 @@ def _finds(accused, readable):
     return all([told in accused for told in readable])
 
 
-def _whole_of(finder):
-    """Return the sum of the weights of a finder."""
-    return sum([weight for weight, accused in finder])
-
-
 def best_writer(source, changes, finder):
     """Return an unseen marking with a finder's keys that finds the most, and a lot that shows why none finds more."""
     texts = source.texts()
     readable = readable_of(texts, changes)
     finders = [[key for key, (_, accused) in enumerate(finder) if _finds(accused, readable[text])] for text in texts]
-    whole = _whole_of(finder)
+    whole = sum_of_weights(finder)
     amounts = [source.weight_of(text) * whole for text in texts]
     handing = Handing(amounts, [weight * source.whole for weight, accused in finder], finders)
     lot = tuple([texts[at] for at in handing.fill()])
@@ -135,4 +130,4 @@ def lot_bound(source, changes, finder, lot):
     readable = readable_of(source.texts(), changes)
     own = sum_of([source.share_of(text) for text in lot])
     found = [weight for weight, accused in finder if any([_finds(accused, readable[text]) for text in lot])]
-    return Share(1, 1) - own + Share(sum(found), _whole_of(finder))
+    return Share(1, 1) - own + Share(sum(found), sum_of_weights(finder))

@@ -44,6 +44,17 @@ FUNCTIONS = {
         "times": ("share", "many"), "often": ("share", "many", "level"), "again_worth": ("source", "many", "level"),
         "row_seen_at": ("source", "rows"), "again_marking": ("source", "many", "level"),
     },
+    "letters": {
+        "letter_write": ("machine", "key"), "hits": ("alphabet", "unit", "key", "text"),
+        "hit_least": ("q", "length", "level"), "hit_tail": ("q", "length", "least"),
+        "hit_found": ("machine", "level", "most"), "hit_shares": ("machine",),
+    },
+    "papers": {
+        "write_table": ("source",), "write_changes": ("changes",), "write_marking": ("marking",),
+        "write_prices": ("paper",), "read_table": ("text",), "read_changes": ("text",), "read_marking": ("text",),
+        "read_prices": ("text",),
+    },
+    "desk": {"answer": ("state", "line")},
 }
 SOURCE_METHODS = {"texts": (), "weight_of": ("text",), "share_of": ("text",), "drawn": ("number",)}
 CLASSES = {
@@ -96,9 +107,16 @@ CLASSES = {
             "rest_of": ("text",),
         },
     },
+    "ledger": {
+        "Ledger": {
+            "__init__": ("marking",), "come_back": ("marking", "journal"), "__len__": (), "issue": ("number",),
+            "key_of": ("ticket",), "text_of": ("ticket",), "withdraw": ("ticket",), "restore": ("ticket",),
+            "asked": ("text",), "journal": (), "chance": ("text",),
+        },
+    },
 }
 # What stands over a method; over all others stands nothing.
-DECORATED = {("Makers", "arcs"): "property"}
+DECORATED = {("Makers", "arcs"): "property", ("Ledger", "come_back"): "classmethod"}
 
 
 def body_of(module):

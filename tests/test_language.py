@@ -143,6 +143,22 @@ class LanguageTest(unittest.TestCase):
                 self.assertEqual(part.decorator_list + part.keywords, [], place)
                 self.assertRegex(part.name, r"^[A-Za-z]", place)
 
+    def test_l4_l5_decorators(self):
+        for part, place in parts():
+            if isinstance(part, ast.FunctionDef):
+                self.assertLessEqual(len(part.decorator_list), 1, place)
+                for over in part.decorator_list:
+                    self.assertIn(getattr(over, "id", None), ("property", "classmethod", "staticmethod"), place)
+
+    def test_l7_l23_stars_over_names_and_lists(self):
+        for part, place in parts():
+            if isinstance(part, ast.Starred):
+                self.assertNotIsInstance(part.value, (ast.Call, ast.GeneratorExp), place)
+
+    def test_l13_one_lambda_on_a_line(self):
+        places = [place for part, place in parts() if isinstance(part, ast.Lambda)]
+        self.assertEqual(len(places), len(set(places)))
+
     def test_l6_l7_statements_and_expressions(self):
         for part, place in parts():
             self.assertNotIsInstance(part, NOT_USED, place)
